@@ -1,0 +1,1 @@
+"""Orders of things in walks whose neighbours are one small step apart."""
