@@ -8,9 +8,9 @@ from onejumps.orders import check_order, is_whole, risen
 def jumped(order, thing, over):
     """Return the order behind a jump."""
     check_order(order)
-    if not _can_jump(order, thing, over):
+    if not can_jump(order, thing, over):
         raise InvalidJump((thing, over))
-    return _behind(order, thing, over)
+    return behind(order, thing, over)
 
 
 def jumps(order):
@@ -21,7 +21,7 @@ def jumps(order):
         (thing, over)
         for thing in risen(many)
         for over in range(1 - many, many)
-        if _can_jump(order, thing, over)
+        if can_jump(order, thing, over)
     ]
 
 
@@ -37,7 +37,7 @@ def between(one, other):
     # A jump gives new places to its thing and lesser ones alone, so the thing is the greatest that has one.
     thing = max(strays)
     over = other.index(thing) - one.index(thing)
-    return (thing, over) if _behind(one, thing, over) == other else None
+    return (thing, over) if behind(one, thing, over) == other else None
 
 
 def undone(jump):
@@ -73,7 +73,7 @@ def is_jump(told):
     return is_whole(thing) and is_whole(over) and thing > 1 and over != 0
 
 
-def _can_jump(order, thing, over):
+def can_jump(order, thing, over):
     """Return True if (thing, over), whatever they are, is a jump of the order, otherwise False."""
     if not is_jump((thing, over)) or thing not in order:
         return False
@@ -85,7 +85,7 @@ def _can_jump(order, thing, over):
     return max(passed) < thing
 
 
-def _behind(order, thing, over):
+def behind(order, thing, over):
     """Return the order behind a thing's move over so many neighbours, which is known to end within the order."""
     start = order.index(thing)
     goal = start + over
@@ -97,9 +97,9 @@ def _least(saying, order, thing, way):
     """Return what `least_jump` does, of arguments that are known to be right."""
     for size in range(1, len(order)):
         # What stops a jump stops each longer one to this side.
-        if not _can_jump(order, thing, way * size):
+        if not can_jump(order, thing, way * size):
             return None
-        there = _behind(order, thing, way * size)
+        there = behind(order, thing, way * size)
         if is_meant(saying, there):
             return there
     return None

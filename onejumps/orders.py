@@ -38,7 +38,12 @@ def taken_down(order):
     check_order(order)
     if len(order) == 1:
         raise InvalidOrder(order)
-    place = place_of_greatest(order)
+    return without_greatest(order)
+
+
+def without_greatest(order):
+    """Return what `taken_down` does, of an order that is known to be one of two or more things."""
+    place = order.index(len(order))
     return order[:place] + order[place + 1:]
 
 
@@ -47,6 +52,11 @@ def put(order, place):
     check_order(order)
     if not is_whole(place) or not 0 <= place <= len(order):
         raise InvalidPlace(place)
+    return with_next(order, place)
+
+
+def with_next(order, place):
+    """Return what `put` does, of an order and a place that are known to be right."""
     return order[:place] + (len(order) + 1,) + order[place:]
 
 

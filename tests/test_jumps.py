@@ -2,10 +2,9 @@ import unittest
 
 from onejumps.errors import InvalidJump, InvalidNumber, InvalidOrder, InvalidPair, InvalidSaying, NotMeant
 from onejumps.jumps import between, jumped, jumps, least_jump, undone
-from tests.helping import (
-    ALL, NO_INTEGERS, NO_ORDERS, NO_SAYINGS, NONE_OF_TWO, TREES,
-    Case, all_orders, jumps_by_trying, means_by_trying, orders_up_to, some_sayings,
-)
+from tests.helping import NO_INTEGERS, NO_ORDERS, NO_SAYINGS, Case
+from tests.sayings import ALL, NONE_OF_TWO, TREES, some_sayings
+from tests.trying import all_orders, jumps_by_trying, means_by_trying, orders_up_to
 
 
 class TestJumps(Case):

@@ -15,7 +15,10 @@ INTERFACE = {
     ],
     "orders": ["is_order", "taken_down", "put", "place_of_greatest", "risen", "orders", "turned"],
     "jumps": ["jumped", "jumps", "between", "undone", "least_jump"],
-    "families": ["is_bar", "is_saying", "shows", "means"],
+    "families": ["is_bar", "is_saying", "shows", "means", "members", "is_steady", "children", "count"],
+    "tame": ["is_tame", "failing", "least_bars", "tame_for_ever"],
+    "walks": ["walk", "steps", "by_rule", "rule_goes_through", "closes"],
+    "places": ["nth", "place_of", "next_of", "last_of", "next_jump", "stretch"],
 }
 
 LIBRARY = ["itertools"]

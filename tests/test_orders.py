@@ -2,7 +2,8 @@ import unittest
 
 from onejumps.errors import InvalidNumber, InvalidOrder, InvalidPlace
 from onejumps.orders import is_order, orders, place_of_greatest, put, risen, taken_down, turned
-from tests.helping import NO_INTEGERS, NO_ORDERS, Case, all_orders, orders_up_to
+from tests.helping import NO_INTEGERS, NO_ORDERS, Case
+from tests.trying import all_orders, orders_up_to
 
 
 class TestWhatIsAnOrder(Case):
@@ -75,7 +76,7 @@ class TestRisenAndTurned(Case):
 class TestOrders(Case):
     def test_all_each_once_ascending(self):
         for n in range(1, 6):
-            self.assert_told(orders, {"n": n}, all_orders(n))
+            self.assert_told(orders, {"n": n}, list(all_orders(n)))
 
     def test_seven_things(self):
         told = orders(7)
