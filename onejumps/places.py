@@ -16,20 +16,20 @@ def nth(saying, n, i):
 
 def place_of(saying, order):
     """Return the place of an order in the walk of as many things."""
-    told = _walk_with(saying, order)
+    told = walk_with(saying, order)
     return told.index(order)
 
 
 def next_of(saying, order):
     """Return the order behind an order in the walk of as many things, or None at its end."""
-    told = _walk_with(saying, order)
+    told = walk_with(saying, order)
     place = told.index(order) + 1
     return told[place] if place < len(told) else None
 
 
 def last_of(saying, order):
     """Return the order ahead of an order in the walk of as many things, or None at its beginning."""
-    told = _walk_with(saying, order)
+    told = walk_with(saying, order)
     place = told.index(order) - 1
     return told[place] if place >= 0 else None
 
@@ -49,7 +49,7 @@ def stretch(saying, n, first, many):
     return told[first:first + many]
 
 
-def _walk_with(saying, order):
+def walk_with(saying, order):
     """Return the walk of as many things as an order has, which has this order."""
     check_saying(saying)
     check_order(order)

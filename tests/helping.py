@@ -2,6 +2,7 @@
 
 import unittest
 from copy import deepcopy
+from itertools import product
 
 from onejumps.errors import JumpError
 from tests.sayings import ALL
@@ -37,9 +38,29 @@ NO_SAYINGS = [
 ] + [("list", (told,)) for told in NO_BARS] + [("list", (BAR, told)) for told in NO_BARS]
 
 
+NO_KINDS = [None, True, 0, b"signs", "", "sign", "Signs", "signs ", "webs", ["signs"], ("signs",), {"signs": 1}]
+
+NO_COUNTS = [0, -1, -6] + NO_INTEGERS
+
+
 def exactly(value):
     """A text that parts 1 from True and a tuple from a list, at every depth."""
     return repr(value)
+
+
+def bent(value):
+    """Values nearly like one of tuples, integers and texts, each bent at one place, at whatever depth."""
+    if isinstance(value, tuple):
+        told = [list(value), (value,), value + ((),), value + (0,), None, 0]
+        told += [value[:k] + value[k + 1:] for k in range(len(value))]
+        told += [value[:k] + value[k:k + 1] + value[k:] for k in range(len(value))]
+        told += [value[:k] + value[k + 1:k + 2] + value[k:k + 1] + value[k + 2:] for k in range(len(value) - 1)]
+        for k, part in enumerate(value):
+            told += [value[:k] + (other,) + value[k + 1:] for other in bent(part)]
+        return told
+    if isinstance(value, int):
+        return [value - 1, value + 1, -value, bool(value), str(value), float(value), None, (value,), [value], ()]
+    return [None, value + " ", value[:-1], (value,), value.encode(), 1]
 
 
 class Case(unittest.TestCase):
@@ -60,6 +81,30 @@ class Case(unittest.TestCase):
             self.assertIs(type(caught.exception), kind)
             self.assertEqual(exactly(caught.exception.value), exactly(value), arguments)
         self.assertEqual(exactly(arguments), exactly(before))
+
+    def assert_due(self, function, right, faults):
+        """Expect, of wrong arguments in all combinations, the error that is due first.
+
+        Faults are (name, value, kind, told): an argument, wrong by this value, and the error that it is wrong by,
+        in the sequence in which they are due.
+        """
+        choices = [
+            [None] + [at for at, fault in enumerate(faults) if fault[0] == name] for name in right
+        ]
+        for chosen in product(*choices):
+            wrong = [at for at in chosen if at is not None]
+            if wrong:
+                arguments = {**right, **{faults[at][0]: faults[at][1] for at in wrong}}
+                _, _, kind, told = faults[min(wrong)]
+                self.assert_error(function, arguments, kind, told)
+
+    def assert_unchanged_by_refused(self, function, arguments, refused):
+        """Expect the same answer behind each refused call, of pairs of a function and its arguments."""
+        told = exactly(function(*arguments))
+        for other, wrong in refused:
+            with self.assertRaises(JumpError):
+                other(*wrong)
+            self.assertEqual(exactly(function(*arguments)), told)
 
     def assert_new_list(self, function, *arguments):
         """Expect a new list at each call, so that what is done to one changes no other."""

@@ -19,9 +19,13 @@ INTERFACE = {
     "tame": ["is_tame", "failing", "least_bars", "tame_for_ever"],
     "walks": ["walk", "steps", "by_rule", "rule_goes_through", "closes"],
     "places": ["nth", "place_of", "next_of", "last_of", "next_jump", "stretch"],
+    "judges": ["is_walk", "first_fault", "is_small"],
+    "kinds": ["is_thing", "family", "order_of", "thing_of", "things", "is_step", "how_many"],
+    "webs": ["is_web", "corners", "directions", "exchanged", "round_of", "how_many_directions"],
+    "hands": ["stretches", "hand_walk", "whose"],
 }
 
-LIBRARY = ["itertools"]
+LIBRARY = ["itertools", "math"]
 
 
 def files():
