@@ -16,8 +16,7 @@ def walk(saying, n):
 
 def steps(saying, n):
     """Return the list of the jumps of the walk of n things of a tame family."""
-    told = walk(saying, n)
-    return [between(one, other) for one, other in zip(told, told[1:])]
+    return steps_along(walk(saying, n))
 
 
 def by_rule(saying, n):
@@ -57,6 +56,11 @@ def tame_walk(saying, n):
     for meant in found[1:]:
         told = _longer_walk(told, meant)
     return told
+
+
+def steps_along(told):
+    """Return the list of the jumps from each order of a walk to the next one."""
+    return [between(one, other) for one, other in zip(told, told[1:])]
 
 
 def _longer_walk(told, meant):

@@ -23,7 +23,13 @@ INTERFACE = {
     "kinds": ["is_thing", "family", "order_of", "thing_of", "things", "is_step", "how_many"],
     "webs": ["is_web", "corners", "directions", "exchanged", "round_of", "how_many_directions"],
     "hands": ["stretches", "hand_walk", "whose"],
+    "prices": ["cost", "walk_cost", "anew", "saved", "dearest"],
+    "texts": ["show_order", "show_jump", "show_bar", "show_saying", "show_thing"],
+    "readers": ["read_order", "read_jump", "read_bar", "read_saying", "read_thing"],
+    "consoles": ["Console"],
 }
+
+METHODS = {("consoles", "Console"): ["keep", "drop", "undo", "saying", "names", "order"]}
 
 LIBRARY = ["itertools", "math"]
 
@@ -52,6 +58,12 @@ class TestLayout(unittest.TestCase):
             body = tree_of(PACKAGE / f"{name}.py").body
             defined = [node.name for node in body if isinstance(node, (ast.FunctionDef, ast.ClassDef))]
             self.assertEqual([word for word in listed if word not in defined], [], name)
+
+    def test_methods_are_defined_in_the_class_itself(self):
+        for (name, kind), listed in METHODS.items():
+            found = [node for node in tree_of(PACKAGE / f"{name}.py").body if getattr(node, "name", None) == kind]
+            defined = [node.name for node in found[0].body if isinstance(node, ast.FunctionDef)]
+            self.assertEqual([word for word in listed if word not in defined], [], kind)
 
     def test_imports_are_of_the_package_and_by_full_names(self):
         for file in files():

@@ -3,13 +3,16 @@
 import unittest
 from time import perf_counter
 
-from onejumps.errors import HasRound, NotMeant, NotTame
+from onejumps.errors import HasRound, NotMeant, NotTame, Unreadable
 from onejumps.families import children, count, is_steady, means, members
 from onejumps.hands import hand_walk, stretches, whose
 from onejumps.judges import first_fault, is_small, is_walk
 from onejumps.kinds import how_many, is_step, is_thing, order_of, thing_of, things
 from onejumps.places import last_of, next_jump, next_of, nth, place_of, stretch
+from onejumps.prices import anew, dearest, saved, walk_cost
+from onejumps.readers import read_saying, read_thing
 from onejumps.tame import failing, is_tame
+from onejumps.texts import show_saying, show_thing
 from onejumps.walks import by_rule, closes, rule_goes_through, steps, walk
 from onejumps.webs import corners, directions, exchanged, how_many_directions, round_of
 from tests.sayings import ALL, PARTINGS, TREES, deep_saying, doubled_saying
@@ -26,7 +29,7 @@ class TestSpeed(unittest.TestCase):
         start = perf_counter()
         try:
             function(*arguments)
-        except (HasRound, NotMeant, NotTame):
+        except (HasRound, NotMeant, NotTame, Unreadable):
             # A refusal takes as long as an answer.
             pass
         self.assertLess(perf_counter() - start, SECONDS, (function.__name__, arguments))
@@ -42,6 +45,9 @@ class TestSpeed(unittest.TestCase):
         self.assert_soon(stretches, saying, 6, 50)
         self.assert_soon(hand_walk, saying, 6, 50, 49)
         self.assert_soon(whose, saying, 50, RISEN)
+        prices = tuple((10 ** 9, 7 ** k) for k in range(6))
+        for function in (walk_cost, anew, saved, dearest):
+            self.assert_soon(function, saying, prices)
         for function in (is_walk, first_fault):
             self.assert_soon(function, saying, 6, walk(ALL, 6))
 
@@ -95,6 +101,18 @@ class TestSpeed(unittest.TestCase):
             self.assert_soon(exchanged, web, web[1], turned)
             self.assert_soon(round_of, web, web[1])
             self.assert_soon(round_of, web, turned)
+
+    def test_texts_of_the_largest(self):
+        forty = tuple(range(40, 0, -1))
+        bars = ("list", ((forty, None),) * 20)
+        for saying in (doubled_saying(TREES, 12), doubled_saying(bars, 6)):
+            self.assert_soon(show_saying, saying)
+            self.assert_soon(read_saying, show_saying(saying))
+            self.assert_soon(read_saying, show_saying(saying)[:-1])
+        for kind in KINDS:
+            thing = thing_of(kind, forty)
+            self.assert_soon(show_thing, kind, thing)
+            self.assert_soon(read_thing, kind, show_thing(kind, thing))
 
 
 if __name__ == "__main__":
